@@ -1,0 +1,1 @@
+"""Hourcoin: hours worked, told in and out, and paid."""

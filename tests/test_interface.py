@@ -1,0 +1,61 @@
+"""The interface: each function and class in the file that lists it, with its arguments."""
+
+import ast
+import pathlib
+import unittest
+
+PACKAGE = pathlib.Path(__file__).parent.parent / "hourcoin"
+FUNCTIONS = {
+    "times": {"day_of": ["minute"], "clock_of": ["minute"], "week_of": ["minute"],
+              "weekday_of": ["minute"], "place_of": ["minute"], "show_minute": ["minute"],
+              "read_minute": ["text"]},
+    "lots": {"is_lot": ["thing"], "lot_of": ["stretches"], "both": ["one", "other"],
+             "without": ["one", "other"], "minutes_in": ["lot"]},
+    "plans": {"is_plan": ["thing"], "shifts_on": ["plan", "day"],
+              "with_standing": ["plan", "day", "shifts"], "with_single": ["plan", "day", "shifts"],
+              "without_single": ["plan", "day"]},
+}
+CLASSES = {
+    "errors": {"HourError": None, "Quarrel": ["names", "minute"], "Unsound": ["number"],
+               "Worn": ["minute"], "Early": ["week"], "NoText": ["row"], "NoHand": ["name"],
+               "Taken": ["name"], "NoStamp": None, "NoFeast": None, "NoSingle": None, "NoRow": None},
+}
+
+
+def defined(module, kind):
+    """What a file of the package defines of this kind at module level, by names."""
+    tree = ast.parse((PACKAGE / (module + ".py")).read_text(encoding="utf-8"))
+    return {node.name: node for node in tree.body if isinstance(node, kind)}
+
+
+def arguments(function):
+    """The names of the arguments that a function takes by place, all without defaults."""
+    taken = function.args
+    assert not (taken.vararg or taken.kwarg or taken.kwonlyargs or taken.defaults)
+    return [one.arg for one in taken.posonlyargs + taken.args]
+
+
+class Interface(unittest.TestCase):
+
+    def test_functions(self):
+        for module, functions in FUNCTIONS.items():
+            there = defined(module, ast.FunctionDef)
+            for name, wanted in functions.items():
+                with self.subTest(module=module, name=name):
+                    self.assertEqual(arguments(there[name]), wanted)
+
+    def test_classes(self):
+        for module, classes in CLASSES.items():
+            there = defined(module, ast.ClassDef)
+            for name, wanted in classes.items():
+                with self.subTest(module=module, name=name):
+                    methods = {node.name: node for node in there[name].body
+                               if isinstance(node, ast.FunctionDef)}
+                    if wanted is None:
+                        self.assertEqual(methods, {})
+                    else:
+                        self.assertEqual(arguments(methods["__init__"]), ["self", *wanted])
+
+
+if __name__ == "__main__":
+    unittest.main()
