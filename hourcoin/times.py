@@ -5,7 +5,9 @@ from hourcoin.errors import NoText
 HOUR_LONG = 60
 DAY_LONG = 1440
 WEEK_DAYS = 7
+WEEK_LONG = 10080
 LAST_DAY = 694443
+LAST_MINUTE = 999999359
 
 
 def day_of(minute):

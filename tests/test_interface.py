@@ -14,11 +14,29 @@ FUNCTIONS = {
     "plans": {"is_plan": ["thing"], "shifts_on": ["plan", "day"],
               "with_standing": ["plan", "day", "shifts"], "with_single": ["plan", "day", "shifts"],
               "without_single": ["plan", "day"]},
+    "held": {"held": ["plan", "lot", "first", "behind"]},
+    "stamps": {"is_stamp": ["thing"], "in_order": ["stamps"],
+               "stretches": ["stamps", "plan", "most"]},
+    "roundings": {"is_rounding": ["thing"], "rounding_of": ["rounding", "plan"]},
+    "counted": {"counted": ["some", "begins", "ends"], "added": ["some", "lot"],
+                "taken": ["some", "lot"]},
+    "books": {"is_name": ["thing"], "is_rule": ["thing"], "is_book": ["thing"],
+              "rate_of": ["book", "sort"]},
+    "cases": {"is_case": ["thing"], "holds": ["rule", "case"], "sort_in": ["book", "case"],
+              "row_of": ["case"]},
+    "sorting": {"sorted_out": ["lot", "feasts", "book"], "case_at": ["lot", "feasts", "minute"]},
+    "quarrels": {"quarrel_of": ["book"]},
 }
 CLASSES = {
     "errors": {"HourError": None, "Quarrel": ["names", "minute"], "Unsound": ["number"],
                "Worn": ["minute"], "Early": ["week"], "NoText": ["row"], "NoHand": ["name"],
                "Taken": ["name"], "NoStamp": None, "NoFeast": None, "NoSingle": None, "NoRow": None},
+    "roundings": {"Rounding": None, "Down": ["step"], "Up": ["step"], "Near": ["step"],
+                  "Graced": ["grace", "inner", "plan"]},
+}
+# The methods that the interface lists for a class, each defined in that class itself.
+METHODS = {
+    "roundings": {name: {"of": ["minute"]} for name in ("Rounding", "Down", "Up", "Near", "Graced")},
 }
 
 
@@ -52,9 +70,19 @@ class Interface(unittest.TestCase):
                     methods = {node.name: node for node in there[name].body
                                if isinstance(node, ast.FunctionDef)}
                     if wanted is None:
-                        self.assertEqual(methods, {})
+                        self.assertNotIn("__init__", methods)
                     else:
                         self.assertEqual(arguments(methods["__init__"]), ["self", *wanted])
+
+    def test_methods(self):
+        for module, classes in METHODS.items():
+            there = defined(module, ast.ClassDef)
+            for name, wanted in classes.items():
+                methods = {node.name: node for node in there[name].body
+                           if isinstance(node, ast.FunctionDef)}
+                for method, taken in wanted.items():
+                    with self.subTest(module=module, name=name, method=method):
+                        self.assertEqual(arguments(methods[method]), ["self", *taken])
 
 
 if __name__ == "__main__":

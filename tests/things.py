@@ -18,7 +18,7 @@ WRAPS = (
 
 
 def odd_things():
-    """Things of each kind, none of which is a lot, a plan or a minute's text."""
+    """Things of each kind; but for the name "a" none of them is what the package asks for."""
     flat = [
         None, True, False, 0, 1, -1, 1440, 10 ** 40, -(10 ** 5000), "", " ", "a", "()", "[]",
         "None", "\n", "x" * 10000, ((),), ((), (), ()), ([], []), ((), []), ([], ()), {},
@@ -32,12 +32,17 @@ def odd_things():
 
 
 def kin(thing):
-    """Things that look like a whole number, a tuple or a list, and are of another kind."""
+    """Things that look like a number, a truth, a text, a tuple or a list, and are none such as it."""
     if isinstance(thing, tuple):
         return [list(thing), None, True, "", {}, dict.fromkeys(range(len(thing))), len(thing)]
     if isinstance(thing, list):
         return [tuple(thing), None, True, "", {}, dict.fromkeys(range(len(thing))), len(thing)]
-    return [None, True, False, str(thing), "", (thing,), [thing], (), [], {}, {thing: thing}]
+    around = ["", (thing,), [thing], (), [], {}, {thing: thing}, None]
+    if isinstance(thing, bool):
+        return [int(thing), str(thing), *around]
+    if isinstance(thing, str):
+        return [True, False, 0, 1, thing.upper(), thing + " ", "\n" + thing, tuple(thing), *around]
+    return [True, False, str(thing), *around]
 
 
 def spoiled(thing):
