@@ -70,14 +70,14 @@ class Walk:
         if self.inside and minute - self.since <= DAY_LONG:
             self.found.append((self.since, minute, "told"))
         else:
-            self.stop()
+            self.leave()
             begin = max(self.guessed_begin(minute), self.since)
             if begin < minute:
                 self.found.append((begin, minute, "begin"))
         self.inside = False
         self.since = minute
 
-    def stop(self):
+    def leave(self):
         """The hand, if it is in, goes out at the guessed end."""
         if self.inside:
             end = self.guessed_end(self.since)
@@ -94,5 +94,5 @@ def stretches(stamps, plan, most):
             walk.come(minute)
         else:
             walk.go(minute)
-    walk.stop()
+    walk.leave()
     return walk.found
