@@ -63,17 +63,20 @@ def quarrel_among(rules):
     return None
 
 
-def sort_in(book, case):
-    """The tuple (sort, name) of a case by a book; Quarrel where its rules quarrel there."""
-    base, _, rules = book
-    held = holding(rules, case)
+def sort_among(book, held):
+    """The tuple (sort, name) where just these rules of a book hold; Quarrel where they quarrel."""
     names = quarrel_among(held)
     if names is not None:
         raise Quarrel(names, None)
     if not held:
-        return base, None
+        return book[0], None
     rule = of_greatest_rank(held)[0]
     return rule[2], rule[0]
+
+
+def sort_in(book, case):
+    """The tuple (sort, name) of a case by a book; Quarrel where its rules quarrel there."""
+    return sort_among(book, holding(book[2], case))
 
 
 def row_of(case):

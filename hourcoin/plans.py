@@ -2,6 +2,7 @@
 
 from hourcoin.errors import NoSingle
 from hourcoin.kinds import are_rising, is_number_within, is_row
+from hourcoin.rising import has_row, rows_to, with_row, without_row
 from hourcoin.times import DAY_LONG, LAST_DAY, WEEK_DAYS
 
 
@@ -45,28 +46,10 @@ def is_plan(thing):
     return are_dated(standings, is_standing_shift) and are_dated(singles, is_single_shift)
 
 
-def rows_to(rows, day):
-    """How many of the rows (day, shifts), days rising, have a day that isn't above this one."""
-    low = 0
-    high = len(rows)
-    while low < high:
-        middle = (low + high) // 2
-        if rows[middle][0] <= day:
-            low = middle + 1
-        else:
-            high = middle
-    return low
-
-
-def has_day(rows, day):
-    """Whether one of the rows (day, shifts) is of this very day."""
-    return rows_to(rows, day) > rows_to(rows, day - 1)
-
-
 def clocks_on(plan, day):
     """The shifts of a day as a list of tuples (clock, length), rising."""
     standings, singles = plan
-    if has_day(singles, day):
+    if has_row(singles, day):
         return list(singles[rows_to(singles, day) - 1][1])
     reached = rows_to(standings, day)
     if reached == 0:
@@ -84,33 +67,21 @@ def shifts_on(plan, day):
     return [(begin + clock, begin + clock + length) for clock, length in clocks_on(plan, day)]
 
 
-def rows_around(rows, day):
-    """The rows (day, shifts) of the days below this one, and those of the days above it."""
-    return rows[:rows_to(rows, day - 1)], rows[rows_to(rows, day):]
-
-
-def with_day(rows, day, shifts):
-    """The rows with one of this day, in the place of one of this day."""
-    ahead, later = rows_around(rows, day)
-    return ahead + ((day, shifts),) + later
-
-
 def with_standing(plan, day, shifts):
     """The plan with these shifts from a day on, up to the next standing."""
     standings, singles = plan
-    return with_day(standings, day, shifts), singles
+    return with_row(standings, day, shifts), singles
 
 
 def with_single(plan, day, shifts):
     """The plan with these shifts on a single day."""
     standings, singles = plan
-    return standings, with_day(singles, day, shifts)
+    return standings, with_row(singles, day, shifts)
 
 
 def without_single(plan, day):
     """The plan with no shifts of a day's own; NoSingle where it has none."""
     standings, singles = plan
-    if not has_day(singles, day):
+    if not has_row(singles, day):
         raise NoSingle(f"day {day} has no shifts of its own")
-    ahead, later = rows_around(singles, day)
-    return standings, ahead + later
+    return standings, without_row(singles, day)

@@ -52,14 +52,17 @@ def least_within(weeks, days, weekday, clocks, feast):
 
 
 def least_case(rules, wanted):
-    """The least case in which wanted is True of the list of rules that hold, None where none is."""
+    """The least case in which wanted is True of the rules that hold, None where there is none.
+
+    It is asked of the list of the numbers of rules, also of such as hold in no case that can come.
+    """
     least = None
     answers = {}
     weeks, days, weekdays, clocks, feasts = regions(rules)
     for week, day, weekday, clock, feast in product(weeks, days, weekdays, clocks, feasts):
         bits = week[1] & day[1] & weekday[1] & clock[1] & feast[1]
         if bits not in answers:
-            answers[bits] = wanted([rule for at, rule in enumerate(rules) if bits >> at & 1])
+            answers[bits] = wanted([at for at in range(len(rules)) if bits >> at & 1])
         if answers[bits]:
             case = least_within(week[0], day[0], weekday[0], clock[0], feast[0])
             if case is not None and (least is None or case < least):
@@ -70,7 +73,7 @@ def least_case(rules, wanted):
 def quarrel_of(book):
     """The tuple (case, names) of the least case in which rules quarrel, None where none is."""
     rules = book[2]
-    case = least_case(rules, lambda held: quarrel_among(held) is not None)
+    case = least_case(rules, lambda numbers: quarrel_among([rules[at] for at in numbers]) is not None)
     if case is None:
         return None
     return case, quarrel_among(holding(rules, case))

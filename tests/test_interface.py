@@ -26,6 +26,13 @@ FUNCTIONS = {
               "row_of": ["case"]},
     "sorting": {"sorted_out": ["lot", "feasts", "book"], "case_at": ["lot", "feasts", "minute"]},
     "quarrels": {"quarrel_of": ["book"]},
+    "parting": {"parted": ["one", "other"], "parting_row": ["one", "other"],
+                "shows_parted": ["one", "other", "thing"]},
+    "paying": {"due": ["lot", "feasts", "book"], "lines": ["lot", "feasts", "book"], "worth": ["lines"],
+               "difference": ["lines", "others"]},
+    "rests": {"is_rest": ["thing"], "spells": ["lot", "rest"], "first_broken": ["lot", "rests"],
+              "may_go_on": ["lot", "rests"], "rested_by": ["lot", "rests"]},
+    "restlooks": {"shows_broken": ["lot", "rests", "thing"]},
 }
 CLASSES = {
     "errors": {"HourError": None, "Quarrel": ["names", "minute"], "Unsound": ["number"],
