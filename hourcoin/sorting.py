@@ -3,7 +3,7 @@
 from hourcoin.books import marks_of
 from hourcoin.cases import sort_in
 from hourcoin.errors import Quarrel
-from hourcoin.lots import both, minutes_in
+from hourcoin.lots import both, lot_of, minutes_in
 from hourcoin.times import DAY_LONG, WEEK_LONG, clock_of, day_of, place_of, week_of
 
 
@@ -25,6 +25,14 @@ def by_days(lot):
             parts.append((begin, end))
             begin = end
     return parts
+
+
+def by_weeks(lot):
+    """The tuples (week, lot) of the weeks that have minutes of a lot, rising."""
+    weeks = {}
+    for first, behind in by_days(lot):
+        weeks.setdefault(week_of(first), []).append((first, behind))
+    return [(week, lot_of(weeks[week])) for week in sorted(weeks)]
 
 
 def with_counts(parts):

@@ -13,9 +13,15 @@ def is_stamp(thing):
     return word in ("in", "out") and is_number_within(minute, 0, LAST_MINUTE)
 
 
+def turn_of(stamp):
+    """What tells by comparison which of two stamps is gone through first: of one minute the out."""
+    word, minute = stamp
+    return minute, word == "in"
+
+
 def in_order(stamps):
     """The stamps, each once, by minutes, of one minute the out first."""
-    rows = sorted({(minute, word == "in") for word, minute in stamps})
+    rows = sorted({turn_of(stamp) for stamp in stamps})
     return [("in" if coming else "out", minute) for minute, coming in rows]
 
 

@@ -33,6 +33,8 @@ FUNCTIONS = {
     "rests": {"is_rest": ["thing"], "spells": ["lot", "rest"], "first_broken": ["lot", "rests"],
               "may_go_on": ["lot", "rests"], "rested_by": ["lot", "rests"]},
     "restlooks": {"shows_broken": ["lot", "rests", "thing"]},
+    "texts": {"show_book": ["book"], "read_book": ["text"]},
+    "logs": {"show_log": ["stamps"], "read_log": ["text"]},
 }
 CLASSES = {
     "errors": {"HourError": None, "Quarrel": ["names", "minute"], "Unsound": ["number"],
@@ -40,10 +42,18 @@ CLASSES = {
                "Taken": ["name"], "NoStamp": None, "NoFeast": None, "NoSingle": None, "NoRow": None},
     "roundings": {"Rounding": None, "Down": ["step"], "Up": ["step"], "Near": ["step"],
                   "Graced": ["grace", "inner", "plan"]},
+    "hands": {"Hand": ["plan", "most", "begins", "ends", "book"]},
+    "desk": {"Desk": ["book", "rests"]},
 }
 # The methods that the interface lists for a class, each defined in that class itself.
 METHODS = {
     "roundings": {name: {"of": ["minute"]} for name in ("Rounding", "Down", "Up", "Near", "Graced")},
+    "hands": {"Hand": {"tell": ["stamp"], "feast": ["day"], "strike": ["stamp"], "ordinary": ["day"],
+                       "usual": ["day"], "standing": ["day", "shifts"], "single": ["day", "shifts"],
+                       "book_from": ["week", "book"], "undo": [], "stamps": [], "worked": [], "feasts": [],
+                       "lot": [], "sorts": [], "week_lines": ["week"], "week_due": ["week"],
+                       "pay": ["week"], "payments": [], "left": []}},
+    "desk": {"Desk": {"say": ["row"]}},
 }
 
 

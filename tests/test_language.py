@@ -134,6 +134,28 @@ class Names(unittest.TestCase):
             self.assertIsNone(WORDS.search("\n".join(lines)), path.name)
 
 
+class Attributes(unittest.TestCase):
+
+    def test_attributes_of_objects(self):
+        kept = set().union(*[dir(made) for made in (0, "", b"", [], {}, set(), ())])
+        allowed = {"count", "index", "title", "find", "get", "join", "lower", "upper", "split", "strip", "copy", "add"}
+        assigned, methods = set(), set()
+        for path, _, tree in sources():
+            for made in [node for node in tree.body if isinstance(node, ast.ClassDef)]:
+                own = {node.name for node in made.body if isinstance(node, ast.FunctionDef)}
+                names = {node.attr for node in ast.walk(made)
+                         if isinstance(node, ast.Attribute) and isinstance(node.ctx, ast.Store)}
+                with self.subTest(path=path.name, made=made.name):
+                    self.assertEqual(own & names, set())
+                    self.assertEqual((names | own - {"__init__"}) & (kept - allowed), set())
+                assigned |= names
+                methods |= own
+        for path, _, tree in sources():
+            for node in ast.walk(tree):
+                if isinstance(node, ast.Attribute):
+                    self.assertIn(node.attr, assigned | methods | kept, path.name)
+
+
 class Statements(unittest.TestCase):
 
     def test_what_is_not_used(self):

@@ -8,7 +8,7 @@ from hourcoin.errors import Quarrel
 from hourcoin.paying import difference, due, lines, worth
 from tests.test_books import ruled
 from tests.test_cases import rule, slow_sort_in, some_book
-from tests.test_sorting import fast_sorted_out, slow_cases, slow_sorted_out, some_lot
+from tests.test_sorting import BUSY_LOT, BUSY_RULES, fast_sorted_out, slow_cases, slow_sorted_out, some_lot
 
 LAST = 999999359
 
@@ -244,11 +244,8 @@ class NothingChanged(unittest.TestCase):
 class ToldSoon(unittest.TestCase):
 
     def test_many_minutes_and_eight_rules(self):
-        rules = [rule(name, at, "late", ("clock", 100 * at, 1439 - 50 * at), ("days", tuple(range(7))),
-                      ("day", 20 * at + 1), ("week", 300 * at + 1)) for at, name in enumerate("abcdefgh")]
-        lot = [(2 * at, 2 * at + 1) for at in range(43200)]
-        rows = lines(lot, list(range(60)), ruled(*rules))
-        self.assertEqual(rows, slow_lines(lot, {day: True for day in range(60)}, ruled(*rules)))
+        book, feasts = ruled(*BUSY_RULES), dict.fromkeys(range(60))
+        self.assertEqual(lines(BUSY_LOT, list(feasts), book), slow_lines(BUSY_LOT, feasts, book))
         self.assertEqual(len(lines([(0, 86400)], [], ruled())), 60)
 
     def test_far_apart(self):

@@ -9,7 +9,7 @@ from hourcoin.lots import is_lot
 from hourcoin.restlooks import shows_broken
 from hourcoin.rests import first_broken, is_rest, may_go_on, rested_by, spells
 from tests.test_lots import lot_by_minutes, minutes_of
-from tests.test_sorting import some_lot
+from tests.test_sorting import BUSY_LOT, some_lot
 from tests.things import odd_things, spoiled
 
 LAST = 999999359
@@ -417,9 +417,8 @@ class ToldSoon(unittest.TestCase):
         self.assertIsNone(first_broken(lot, rests))
         self.assertEqual(may_go_on(lot, rests), 10075)
         self.assertEqual(rested_by(lot, rests), 9999)
-        lot = [(2 * at, 2 * at + 1) for at in range(43200)]
-        self.assertEqual(first_broken(lot, rests), (10076, 9, 0))
-        self.assertIs(shows_broken(lot, rests, (86398, 0, 0)), True)
+        self.assertEqual(first_broken(BUSY_LOT, rests), (10076, 9, 0))
+        self.assertIs(shows_broken(BUSY_LOT, rests, (86398, 0, 0)), True)
 
     def test_thousands_of_minutes(self):
         self.assertEqual(first_broken([(7, 80000)], [("work", 10080, 1)] * 12), (10087, 0, 7))

@@ -12,6 +12,10 @@ from tests.test_cases import rule, slow_sort_in, some_book, some_case
 from tests.test_lots import lot_by_minutes, minutes_of
 
 LAST = 999999359
+# Eight rules of four conditions each, and each second minute of sixty days.
+BUSY_RULES = tuple(rule(name, at, "late", ("clock", 100 * at, 1439 - 50 * at), ("days", tuple(range(7))),
+                        ("day", 20 * at + 1), ("week", 300 * at + 1)) for at, name in enumerate("abcdefgh"))
+BUSY_LOT = [(2 * at, 2 * at + 1) for at in range(43200)]
 
 
 def slow_cases(lot, feasts):
@@ -272,11 +276,8 @@ class NothingChanged(unittest.TestCase):
 class ToldSoon(unittest.TestCase):
 
     def test_many_minutes_and_eight_rules(self):
-        rules = [rule(name, at, "late", ("clock", 100 * at, 1439 - 50 * at), ("days", tuple(range(7))),
-                      ("day", 20 * at + 1), ("week", 300 * at + 1)) for at, name in enumerate("abcdefgh")]
-        lot = [(2 * at, 2 * at + 1) for at in range(43200)]
-        rows = sorted_out(lot, list(range(60)), ruled(*rules))
-        self.assertEqual(rows, slow_sorted_out(lot, {day: True for day in range(60)}, ruled(*rules)))
+        book, feasts = ruled(*BUSY_RULES), dict.fromkeys(range(60))
+        self.assertEqual(sorted_out(BUSY_LOT, list(feasts), book), slow_sorted_out(BUSY_LOT, feasts, book))
         self.assertEqual(len(sorted_out([(0, 86400)], [], ruled())), 1)
 
     def test_far_apart(self):

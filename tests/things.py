@@ -53,3 +53,14 @@ def spoiled(thing):
         for at, part in enumerate(thing):
             for other in spoiled(part):
                 yield make([*thing[:at], other, *thing[at + 1:]])
+
+
+def bent(text, signs):
+    """The text cut short at each place, and with a sign more, fewer or another one there."""
+    for at in range(len(text) + 1):
+        yield text[:at]
+        yield text[at:]
+        yield text[:at] + text[at + 1:]
+        for sign in signs:
+            yield text[:at] + sign + text[at:]
+            yield text[:at] + sign + text[at + 1:]
